@@ -1,0 +1,1 @@
+"""Kilnyard: incremental builds on several hosts."""

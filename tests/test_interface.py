@@ -1,0 +1,66 @@
+"""The interface of DOC.md: its names, their arguments, and the files in which they are defined."""
+
+import importlib
+import inspect
+import unittest
+
+FUNCTIONS = {
+    "kilnyard.keys": {"is_text": "value", "is_content": "value", "content_key": "text", "key_text": "key"},
+    "kilnyard.paths": {"is_path": "value", "is_pattern": "value", "stem_of": "pattern path",
+                       "fill": "pattern stem", "directory": "path", "parents": "path"},
+}
+
+# For each class its base class, the arguments with which it is created, and its methods.
+CLASSES = {
+    "kilnyard.errors": {
+        "BuildError": ("ValueError", None, {}),
+        "InvalidKey": ("BuildError", "key", {}),
+        "InvalidPath": ("BuildError", "path", {}),
+        "InvalidContent": ("BuildError", "path", {}),
+        "NoEntry": ("BuildError", "path", {}),
+        "TreeFull": ("BuildError", "path", {}),
+        "InvalidRecipe": ("BuildError", "path line column reason", {}),
+        "Held": ("BuildError", "job", {}),
+    },
+    "kilnyard.trees": {
+        "Tree": ("object", "", {
+            "write": "path text by", "link": "path target", "erase": "path", "kind": "path", "read": "path",
+            "writer": "path", "target": "path", "resolve": "path", "paths": "", "twin": ""}),
+    },
+}
+
+
+def arguments(function):
+    """The names of the arguments of a function, separated by spaces."""
+    return " ".join(inspect.signature(function).parameters)
+
+
+class TestInterface(unittest.TestCase):
+    def test_functions(self):
+        for place, functions in FUNCTIONS.items():
+            module = importlib.import_module(place)
+            for name, expected in functions.items():
+                with self.subTest(module=place, name=name):
+                    function = getattr(module, name)
+                    self.assertTrue(inspect.isfunction(function))
+                    self.assertEqual(function.__module__, place)
+                    self.assertEqual(arguments(function), expected)
+
+    def test_classes(self):
+        for place, classes in CLASSES.items():
+            module = importlib.import_module(place)
+            for name, (base, created_with, methods) in classes.items():
+                with self.subTest(module=place, name=name):
+                    owner = getattr(module, name)
+                    self.assertTrue(inspect.isclass(owner))
+                    self.assertEqual(owner.__module__, place)
+                    self.assertEqual([each.__name__ for each in owner.__bases__], [base])
+                    if created_with is not None:
+                        self.assertEqual(arguments(owner), created_with)
+                    for method, expected in methods.items():
+                        self.assertIn(method, vars(owner))
+                        self.assertEqual(arguments(vars(owner)[method]), ("self " + expected).strip())
+
+
+if __name__ == "__main__":
+    unittest.main()

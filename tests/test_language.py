@@ -1,0 +1,117 @@
+"""Those rules of LANGUAGE.md that a short look at each file of the package can check."""
+
+import ast
+import io
+import re
+import tokenize
+import unittest
+import warnings
+from pathlib import Path
+
+PACKAGE = Path(__file__).resolve().parent.parent / "kilnyard"
+FILES = sorted(PACKAGE.rglob("*.py"))
+BUILTINS = set(dir(__builtins__) if not isinstance(__builtins__, dict) else __builtins__)
+ALLOWED_BUILTINS = set("""
+    len range enumerate zip min max sum abs sorted reversed int str bool bytes list tuple dict set isinstance ord
+    repr any all divmod pow getattr hasattr setattr iter next map print property staticmethod classmethod super
+    object float NotImplemented Exception ValueError TypeError KeyError IndexError LookupError ZeroDivisionError
+    ArithmeticError OverflowError RuntimeError NotImplementedError AttributeError StopIteration __name__
+""".split())
+LIBRARY = {"__future__", "heapq", "math", "itertools", "collections"}
+BARRED_WORDS = re.compile(r"\b(typing|typing_extensions|enum|Enum|IntEnum|StrEnum|Flag|IntFlag|Generic|Protocol|ABC"
+                          r"|ABCMeta|namedtuple|NamedTuple|TypedDict|TYPE_CHECKING|abstractmethod)\b"
+                          r"|dataclass|overload|contextmanager|_wall\b|_WallAttr")
+
+
+def source_of(file):
+    return file.read_bytes().decode("ascii")
+
+
+def nodes(file, *kinds):
+    """The nodes of these kinds in the syntax of a file."""
+    return [node for node in ast.walk(ast.parse(source_of(file))) if isinstance(node, kinds)]
+
+
+def bound_names(file):
+    """All names that a file gives a meaning, those of methods and attributes left out."""
+    names = [node.id for node in nodes(file, ast.Name) if isinstance(node.ctx, ast.Store)]
+    names += [node.arg for node in nodes(file, ast.arg)]
+    methods = [part for owner in nodes(file, ast.ClassDef) for part in owner.body]
+    lines = [part.lineno for part in methods]
+    names += [node.name for node in nodes(file, ast.FunctionDef, ast.ClassDef) if node.lineno not in lines]
+    return names
+
+
+class TestLanguage(unittest.TestCase):
+    def test_the_package_has_files(self):
+        self.assertIn(PACKAGE / "__init__.py", FILES)
+
+    def test_the_folder_holds_nothing_else(self):
+        for path in PACKAGE.rglob("*"):
+            if "__pycache__" not in path.parts:
+                self.assertTrue(path.is_dir() or re.fullmatch(r"[a-z0-9_]+\.py", path.name), path)
+
+    def test_sizes(self):
+        for file in FILES:
+            with self.subTest(file=file.name):
+                lines = source_of(file).split("\n")
+                self.assertLessEqual(len(lines), 399)
+                self.assertLessEqual(max([len(line) for line in lines]), 120)
+                for node in nodes(file, ast.FunctionDef):
+                    self.assertLessEqual(node.end_lineno - node.lineno + 1, 40, node.name)
+
+    def test_characters(self):
+        for file in FILES:
+            with self.subTest(file=file.name):
+                self.assertEqual(re.findall(r"[^ -~\n]", source_of(file)), [])
+
+    def test_strings(self):
+        for file in FILES:
+            with self.subTest(file=file.name):
+                for node in nodes(file, ast.Constant):
+                    if isinstance(node.value, str):
+                        self.assertNotIn("%", node.value)
+                        self.assertFalse(node.value.endswith(("._", ".__")))
+                for token in tokenize.generate_tokens(io.StringIO(source_of(file)).readline):
+                    if token.type == tokenize.STRING:
+                        self.assertEqual(re.findall(r"\\[^nt\\'\"]", token.string.replace("\\\\", "")), [])
+
+    def test_imports(self):
+        for file in FILES:
+            with self.subTest(file=file.name):
+                self.assertEqual([node for node in nodes(file, ast.Import) if file.name != "__main__.py"], [])
+                for node in nodes(file, ast.ImportFrom):
+                    self.assertEqual(node.level, 0)
+                    self.assertTrue(node.module in LIBRARY or node.module.startswith("kilnyard."), node.module)
+                    self.assertNotIn("*", [name.name for name in node.names])
+
+    def test_builtins(self):
+        for file in FILES:
+            with self.subTest(file=file.name):
+                bound = bound_names(file)
+                self.assertEqual([name for name in bound if name in BUILTINS], [])
+                used = [node.id for node in nodes(file, ast.Name) if isinstance(node.ctx, ast.Load)]
+                self.assertEqual([name for name in used if name in BUILTINS - ALLOWED_BUILTINS], [])
+
+    def test_barred_words(self):
+        for file in FILES:
+            with self.subTest(file=file.name):
+                self.assertIsNone(BARRED_WORDS.search(source_of(file)))
+
+    def test_no_barred_statements_and_values(self):
+        for file in FILES:
+            with self.subTest(file=file.name):
+                self.assertEqual(nodes(file, ast.Global, ast.AsyncFunctionDef, ast.Await, ast.Div), [])
+                values = [node.value for node in nodes(file, ast.Constant)]
+                self.assertEqual([value for value in values if isinstance(value, (float, complex))], [])
+
+    def test_python_gives_no_warning(self):
+        for file in FILES:
+            with self.subTest(file=file.name):
+                with warnings.catch_warnings():
+                    warnings.simplefilter("error")
+                    compile(source_of(file), str(file), "exec")
+
+
+if __name__ == "__main__":
+    unittest.main()
