@@ -8,6 +8,10 @@ FUNCTIONS = {
     "kilnyard.keys": {"is_text": "value", "is_content": "value", "content_key": "text", "key_text": "key"},
     "kilnyard.paths": {"is_path": "value", "is_pattern": "value", "stem_of": "pattern path",
                        "fill": "pattern stem", "directory": "path", "parents": "path"},
+    "kilnyard.scanning": {"scan_line": "path number line", "is_identifier": "value"},
+    "kilnyard.expressions": {"parse_expression": "tokens start known"},
+    "kilnyard.recipes": {"parse_book": "tree"},
+    "kilnyard.printing": {"format_string": "text", "format_expression": "expression", "format_rule": "rule"},
 }
 
 # For each class its base class, the arguments with which it is created, and its methods.
@@ -26,6 +30,13 @@ CLASSES = {
         "Tree": ("object", "", {
             "write": "path text by", "link": "path target", "erase": "path", "kind": "path", "read": "path",
             "writer": "path", "target": "path", "resolve": "path", "paths": "", "twin": ""}),
+    },
+    "kilnyard.expressions": {
+        "BadToken": ("BuildError", "column reason", {}),
+    },
+    "kilnyard.recipes": {
+        "Rule": ("object", "outputs inputs sealed body", {"is_pattern": ""}),
+        "Book": ("object", "", {}),
     },
 }
 

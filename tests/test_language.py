@@ -93,6 +93,22 @@ class TestLanguage(unittest.TestCase):
                 used = [node.id for node in nodes(file, ast.Name) if isinstance(node.ctx, ast.Load)]
                 self.assertEqual([name for name in used if name in BUILTINS - ALLOWED_BUILTINS], [])
 
+    def test_variables_do_not_have_the_names_of_classes_and_imports(self):
+        for file in FILES:
+            with self.subTest(file=file.name):
+                taken = [node.name for node in nodes(file, ast.ClassDef)]
+                taken += [name.name for node in nodes(file, ast.ImportFrom) for name in node.names]
+                self.assertEqual(len(taken), len(set(taken)))
+                variables = [node.id for node in nodes(file, ast.Name) if isinstance(node.ctx, ast.Store)]
+                variables += [node.arg for node in nodes(file, ast.arg)]
+                self.assertEqual([name for name in variables if name in taken], [])
+
+    def test_no_generator_expressions(self):
+        # A class of the package has an `__eq__`: then `any`, `all`, `sorted` and the like take a list.
+        for file in FILES:
+            with self.subTest(file=file.name):
+                self.assertEqual(nodes(file, ast.GeneratorExp), [])
+
     def test_barred_words(self):
         for file in FILES:
             with self.subTest(file=file.name):
