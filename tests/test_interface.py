@@ -12,9 +12,16 @@ FUNCTIONS = {
     "kilnyard.expressions": {"parse_expression": "tokens start known"},
     "kilnyard.recipes": {"parse_book": "tree"},
     "kilnyard.printing": {"format_string": "text", "format_expression": "expression", "format_rule": "rule"},
+    "kilnyard.texts": {"lines_of": "text", "apply_function": "name arguments"},
+    "kilnyard.running": {"run_tool": "book job view"},
+    "kilnyard.targets": {"make_job": "book rule stem", "owner": "book path", "maker": "book path",
+                         "rule_text": "book job", "rule_key": "book job", "plain_outputs": "book",
+                         "listing_text": "tree book folder pattern"},
+    "kilnyard.plain": {"build_from_nothing": "tree book settings goals"},
 }
 
-# For each class its base class, the arguments with which it is created, and its methods.
+# For each class its base class, the arguments with which it is created (None: the document does not say), and
+# its methods.
 CLASSES = {
     "kilnyard.errors": {
         "BuildError": ("ValueError", None, {}),
@@ -37,6 +44,41 @@ CLASSES = {
     "kilnyard.recipes": {
         "Rule": ("object", "outputs inputs sealed body", {"is_pattern": ""}),
         "Book": ("object", "", {}),
+    },
+    "kilnyard.running": {
+        "Run": ("object", None, {}),
+    },
+    "kilnyard.targets": {
+        "Job": ("object", "rule stem outputs inputs", {"name": ""}),
+    },
+    "kilnyard.plain": {
+        "Outcome": ("object", None, {}),
+    },
+    "kilnyard.refusals": {
+        "InvalidRecord": ("BuildError", "line", {}),
+        "MissingContent": ("BuildError", "key", {}),
+        "NoSuchRecord": ("BuildError", "index", {}),
+        "DamagedRecord": ("BuildError", "index", {}),
+        "InvalidLength": ("BuildError", "length", {}),
+        "InvalidGoals": ("BuildError", "count", {}),
+        "BuildOver": ("BuildError", None, {}),
+        "NotReady": ("BuildError", "name", {}),
+        "NotRunning": ("BuildError", "name", {}),
+        "NoSuchAttempt": ("BuildError", "attempt", {}),
+        "InvalidCrew": ("BuildError", None, {}),
+        "NoSuchWorker": ("BuildError", "worker", {}),
+        "WorkerGone": ("BuildError", "worker", {}),
+        "WorkerThere": ("BuildError", "worker", {}),
+        "WorkerIdle": ("BuildError", "worker", {}),
+        "InvalidDelay": ("BuildError", "moments", {}),
+        "InvalidHouse": ("BuildError", "count", {}),
+        "NoSuchHost": ("BuildError", "host", {}),
+        "HostDown": ("BuildError", "host", {}),
+        "HostUp": ("BuildError", "host", {}),
+        "HostBusy": ("BuildError", "host", {}),
+        "NoBuild": ("BuildError", "host", {}),
+        "InvalidCount": ("BuildError", "count", {}),
+        "InvalidSetting": ("BuildError", "name", {}),
     },
 }
 
