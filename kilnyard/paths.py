@@ -19,6 +19,11 @@ def is_pattern(value):
     return value.count("*") == 1 and is_path(value.replace("*", "a"))
 
 
+def is_name_pattern(value):
+    """True if the string is a pattern of one name."""
+    return "/" not in value and is_pattern(value)
+
+
 def stem_of(pattern, path):
     """The stem with which the path matches the pattern, or None."""
     before, behind = pattern.split("*")

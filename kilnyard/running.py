@@ -2,7 +2,7 @@
 
 from kilnyard.errors import BuildError, Held
 from kilnyard.keys import CONTENT_LENGTH, key_text
-from kilnyard.paths import is_path, is_pattern
+from kilnyard.paths import is_name_pattern, is_path
 from kilnyard.scanning import is_identifier
 from kilnyard.texts import apply_function, lines_of
 from kilnyard.trees import MOST_LINKS
@@ -190,7 +190,7 @@ class Runner:
             raise ToolFailed("sealed")
         if folder != "" and not is_path(folder):
             raise ToolFailed("invalid path")
-        if not is_pattern(pattern) or "/" in pattern:
+        if not is_name_pattern(pattern):
             raise ToolFailed("invalid pattern")
         return self.looks.ask_text(("listing", folder, pattern))
 

@@ -18,6 +18,10 @@ FUNCTIONS = {
                          "rule_text": "book job", "rule_key": "book job", "plain_outputs": "book",
                          "listing_text": "tree book folder pattern"},
     "kilnyard.plain": {"build_from_nothing": "tree book settings goals"},
+    "kilnyard.records": {"question": "need", "format_record": "record", "parse_record": "line",
+                         "first_change": "record view"},
+    "kilnyard.journals": {"content_line": "text", "record_line": "record", "readable_length": "text",
+                          "read_journal": "journal"},
 }
 
 # For each class its base class, the arguments with which it is created (None: the document does not say), and
@@ -53,6 +57,23 @@ CLASSES = {
     },
     "kilnyard.plain": {
         "Outcome": ("object", None, {}),
+    },
+    "kilnyard.records": {
+        "Record": ("object", "outputs rule_key needs results", {}),
+    },
+    "kilnyard.stores": {
+        "Store": ("object", "journal", {
+            "put_content": "text", "content": "key", "has_content": "key", "add_record": "record", "record": "index",
+            "find_records": "outputs rule_key", "lose_content": "key", "damage_content": "key text",
+            "lose_record": "index", "damage_record": "index line", "content_keys": "", "record_count": "",
+            "twin": "", "kept_texts": "", "kept_records": "", "fill_from": "texts rows"}),
+    },
+    "kilnyard.journals": {
+        "Journal": ("object", "text", {"text": "", "add_content": "text", "add_record": "record", "cut": "length"}),
+    },
+    "kilnyard.views": {
+        "View": ("object", "tree book settings", {
+            "mark_done": "job", "is_done": "job", "without": "name", "is_source": "path", "see": "question"}),
     },
     "kilnyard.refusals": {
         "InvalidRecord": ("BuildError", "line", {}),

@@ -5,7 +5,7 @@ import re
 import unittest
 
 from kilnyard.errors import InvalidPath
-from kilnyard.paths import directory, fill, is_path, is_pattern, parents, stem_of
+from kilnyard.paths import directory, fill, is_name_pattern, is_path, is_pattern, parents, stem_of
 
 NAME = r"[a-z0-9_][a-z0-9_.]{0,11}"
 PATH = re.compile(NAME + "(/" + NAME + r"){0,3}\Z")
@@ -85,6 +85,20 @@ class TestIsPattern(unittest.TestCase):
         for value in short_strings("a.*/", 5):
             expected = value.count("*") == 1 and PATH.match(value.replace("*", "x")) is not None
             self.assertIs(is_pattern(value), expected, value)
+
+
+class TestNamePatterns(unittest.TestCase):
+    def test_patterns_of_one_name(self):
+        for value in ("*", "*.c", "a*", "a*b", "*" + "a" * 11):
+            self.assertIs(is_name_pattern(value), True, value)
+
+    def test_patterns_of_several_names(self):
+        for value in ("d/*", "*/a", "a/b*/c"):
+            self.assertIs(is_name_pattern(value), False, value)
+
+    def test_what_is_no_pattern(self):
+        for value in ("", "a", "**", ".*", "A*", "*" + "a" * 12, "/", "*/"):
+            self.assertIs(is_name_pattern(value), False, value)
 
 
 class TestStemOf(unittest.TestCase):
