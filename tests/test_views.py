@@ -308,6 +308,17 @@ class TestRunsOnViews(ViewCase):
         run = run_tool(self.book, self.job("all"), self.view)
         self.assertEqual((run.outcome, run.outputs), ("done", ("X", "all\nlist\nrules\nx.c")))
 
+    def test_a_run_changes_nothing(self):
+        def all_there_is():
+            return (self.tree.entries, self.book.settings, self.book.rules, self.book.files, self.settings,
+                    self.view.settings)
+
+        before = copy.deepcopy(all_there_is())
+        for path, outcome in (("all", "held"), ("x.o", "done"), ("y.o", "failed")):
+            self.assertEqual(run_tool(self.book, self.job(path), self.view).outcome, outcome)
+            self.assertEqual(all_there_is(), before)
+            self.assertIs(self.view.is_done(self.job(path)), False)
+
     def test_the_needs_of_a_run_are_unchanged_until_something_changes(self):
         run = run_tool(self.book, self.job("x.o"), self.view)
         record = Record(("x.o", "x.d"), 5, run.needs, tuple([content_key(text) for text in run.outputs]))
