@@ -22,6 +22,9 @@ FUNCTIONS = {
                          "first_change": "record view"},
     "kilnyard.journals": {"content_line": "text", "record_line": "record", "readable_length": "text",
                           "read_journal": "journal"},
+    "kilnyard.deciding": {"candidates": "job book store hall", "at_hand": "path key tree store hall",
+                          "decide": "job view store hall", "take": "job decision view store hall"},
+    "kilnyard.reasons": {"check_entry": "entry build store hall"},
 }
 
 # For each class its base class, the arguments with which it is created (None: the document does not say), and
@@ -74,6 +77,18 @@ CLASSES = {
     "kilnyard.views": {
         "View": ("object", "tree book settings", {
             "mark_done": "job", "is_done": "job", "without": "name", "is_source": "path", "see": "question"}),
+    },
+    "kilnyard.building": {
+        "Build": ("object", "tree book settings store hall goals keep_going", {
+            "outcome": "", "states": "", "ready": "", "start": "name", "start_again": "name", "finish": "attempt",
+            "drop": "attempt", "give_up": "name", "writes": "attempt", "attempt_count": "", "job": "name",
+            "attempt_job": "attempt", "attempt_steps": "attempt", "cancel": "", "contents": "", "failures": "",
+            "rings": "", "ledger": "", "view": ""}),
+    },
+    "kilnyard.crews": {
+        "Crew": ("object", "build speeds patience tries", {
+            "clock": "", "worker_state": "worker", "worker_attempt": "worker", "tick": "", "run": "moments",
+            "lose": "worker", "hire": "worker", "delay": "worker moments", "bring_twice": "worker"}),
     },
     "kilnyard.refusals": {
         "InvalidRecord": ("BuildError", "line", {}),
