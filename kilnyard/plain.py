@@ -27,12 +27,8 @@ class TooManyJobs(BuildError):
 
 def build_from_nothing(tree, book, settings, goals):
     """What the goals come to, from the links and the files of persons alone."""
-    plain = PlainBuild(tree, book, settings)
-    try:
-        for job in makers_of(book, goals):
-            plain.need(job)
-        plain.settle_all()
-    except TooManyJobs:
+    plain = settled_build(tree, book, settings, goals)
+    if plain is None:
         return Outcome("too many", {}, {}, [], [])
     failures = plain.failures
     for goal in goals:
@@ -40,6 +36,18 @@ def build_from_nothing(tree, book, settings, goals):
             failures[goal] = ("missing", goal)
     outcome = "done" if failures == {} else "failed"
     return Outcome(outcome, plain.contents, failures, plain.rings, sorted(plain.jobs))
+
+
+def settled_build(tree, book, settings, goals):
+    """The plain build of the goals with all needed jobs settled, or None if there would be too many."""
+    plain = PlainBuild(tree, book, settings)
+    try:
+        for job in makers_of(book, goals):
+            plain.need(job)
+        plain.settle_all()
+    except TooManyJobs:
+        return None
+    return plain
 
 
 class PlainView:
@@ -76,6 +84,8 @@ class PlainBuild:
         self.waits = {}
         self.failures = {}
         self.rings = []
+        # The last runs of the tools, by the names of their jobs.
+        self.runs = {}
 
     def need(self, job):
         """Makes a job needed, and the jobs that make its inputs."""
@@ -99,6 +109,16 @@ class PlainBuild:
             else:
                 self._move(name)
 
+    def uses(self, name):
+        """The names of the jobs that make inputs of a job, or what its last run saw, or at which it was held."""
+        paths = list(self.jobs[name].inputs)
+        held = []
+        if name in self.runs:
+            run = self.runs[name]
+            paths.extend([need[1] for need in run.needs if need[0] == "file"])
+            held = [] if run.held is None else [run.held]
+        return sorted(set([other.name() for other in makers_of(self.book, paths) + held]))
+
     def _next(self):
         """The least name of a job that waits for settled jobs alone, or None."""
         for name in sorted(self.waits):
@@ -121,6 +141,7 @@ class PlainBuild:
         """Runs the tool of a job."""
         job = self.jobs[name]
         run = run_tool(self.book, job, self.view)
+        self.runs[name] = run
         if run.outcome == "done":
             for path, text in zip(job.outputs, run.outputs):
                 self.contents[path] = text

@@ -3,6 +3,8 @@
 import copy
 
 from kilnyard.building import Build
+from kilnyard.deciding import decide
+from kilnyard.errors import Held
 from kilnyard.keys import content_key
 from kilnyard.plain import build_from_nothing
 from kilnyard.reasons import check_entry
@@ -186,3 +188,81 @@ def harm(rng, store):
         store.lose_record(rng.choice(rows))
     elif what == 3 and rows:
         store.damage_record(rng.choice(rows), rng.choice(["", "x", "a 1 - 1"]))
+
+
+class Driver:
+    """Drives a build at random, and checks what the document says of each call."""
+
+    def __init__(self, test, rng, yard, goals, keep_going):
+        self.test = test
+        self.rng = rng
+        self.yard = yard
+        self.goals = goals
+        self.keep_going = keep_going
+        self.nothing = yard.nothing(*goals)
+        self.book = yard.book
+        self.build = yard.build(*goals, keep_going=keep_going)
+        self.disturbed = False
+        self.seen = 0
+        self.check()
+
+    def step(self):
+        """One call on the build."""
+        build, rng = self.build, self.rng
+        running = [name for name, state in build.states().items() if state == "running"]
+        what = rng.randrange(10)
+        if build.outcome() != "going":
+            self.test.assertNotIn(True, [build.finish(attempt) for attempt in range(build.attempt_count())])
+        elif what < 4 and build.ready() != []:
+            self.start(rng.choice(build.ready()), build.start)
+        elif what == 4 and running != []:
+            self.start(rng.choice(sorted(running)), build.start_again)
+        elif what < 8 and build.attempt_count() > 0:
+            build.finish(rng.randrange(build.attempt_count()))
+        elif what == 8 and build.attempt_count() > 0:
+            build.drop(rng.randrange(build.attempt_count()))
+        self.check()
+
+    def start(self, name, method):
+        """Starts an attempt, unless a whole record fits what is seen now."""
+        try:
+            decision = decide(self.build.job(name), self.build.view(), self.yard.store, self.yard.hall)[0]
+        except Held:
+            decision = "held"
+        self.test.assertEqual(method(name) is None, decision != "run")
+
+    def check(self):
+        """Each new entry holds, and asking changes nothing."""
+        entries = self.build.ledger()
+        if self.build.outcome() != "too many":
+            for entry in entries[self.seen:]:
+                self.test.assertTrue(self.yard.checks(entry, self.build), (entry, entries))
+        self.seen = len(entries)
+
+    def finish(self):
+        """Drives the build to its end."""
+        steps = 0
+        while self.build.outcome() == "going":
+            self.step()
+            steps += 1
+            self.test.assertLess(steps, 5000)
+        self.check_end()
+
+    def check_end(self):
+        """What came of the build is what building from nothing gives."""
+        build, nothing = self.build, self.nothing
+        after = build_from_nothing(self.yard.tree, self.book, self.yard.settings, self.goals)
+        self.test.assertEqual(vars(after), vars(nothing))
+        self.test.assertEqual(build.outcome(), nothing.outcome)
+        if build.outcome() == "done":
+            for path, text in build.contents().items():
+                self.test.assertEqual(nothing.contents[path], text)
+                self.test.assertEqual((self.yard.tree.read(path), self.yard.tree.writer(path)), (text, "build"))
+        if self.keep_going and build.outcome() in ("done", "failed"):
+            self.test.assertEqual((build.failures(), build.rings()), (nothing.failures, nothing.rings))
+            self.test.assertTrue(set(build.contents().items()) <= set(nothing.contents.items()))
+        for name, failure in build.failures().items():
+            self.test.assertEqual(nothing.failures[name], failure)
+        if not self.disturbed:
+            for entry in build.ledger():
+                self.test.assertTrue(entry[0] == "run" or self.yard.checks(entry, build), entry)

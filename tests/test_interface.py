@@ -25,6 +25,15 @@ FUNCTIONS = {
     "kilnyard.deciding": {"candidates": "job book store hall", "at_hand": "path key tree store hall",
                           "decide": "job view store hall", "take": "job decision view store hall"},
     "kilnyard.reasons": {"check_entry": "entry build store hall"},
+    "kilnyard.graphs": {"job_graph": "tree book settings goals", "users_of": "graph name",
+                        "reached_from": "graph name", "rings_of": "graph", "order_of": "graph",
+                        "depths_of": "graph"},
+    "kilnyard.changes": {"changed_paths": "before after",
+                         "touched_jobs": "book goals before before_settings after after_settings"},
+    "kilnyard.cleaning": {"strays": "tree book", "sweep": "tree book", "live_records": "store book",
+                          "live_contents": "store book", "clean": "store book"},
+    "kilnyard.saving": {"save_tree": "tree", "save_settings": "settings", "save_store": "store",
+                        "load_tree": "text", "load_settings": "text", "load_store": "text"},
 }
 
 # For each class its base class, the arguments with which it is created (None: the document does not say), and
@@ -89,6 +98,20 @@ CLASSES = {
         "Crew": ("object", "build speeds patience tries", {
             "clock": "", "worker_state": "worker", "worker_attempt": "worker", "tick": "", "run": "moments",
             "lose": "worker", "hire": "worker", "delay": "worker moments", "bring_twice": "worker"}),
+    },
+    "kilnyard.houses": {
+        "House": ("object", "count", {
+            "host_count": "", "is_up": "host", "shares": "host", "settings": "host", "write": "host path text",
+            "erase": "host path", "link": "host path target", "set_text": "host name text", "unset": "host name",
+            "share": "host on", "begin": "host goals keep_going", "build": "host", "crash": "host",
+            "crash_in": "host attempt count extra", "restart": "host", "hall": "", "store": "host",
+            "journal": "host", "tree": "host"}),
+    },
+    "kilnyard.graphs": {
+        "HasRing": ("BuildError", "names", {}),
+    },
+    "kilnyard.saving": {
+        "InvalidSave": ("BuildError", "line", {}),
     },
     "kilnyard.refusals": {
         "InvalidRecord": ("BuildError", "line", {}),
