@@ -33,10 +33,10 @@ def live_contents(store, book):
 
 def clean(store, book):
     """Loses what is dead in a store; how many records and how many contents that were."""
-    live = live_records(store, book)
+    records = set(live_records(store, book))
+    contents = set(live_contents(store, book))
     kept = [index for index, row in enumerate(store.kept_records()) if row is not None]
-    dead_records = [index for index in kept if index not in live]
-    contents = live_contents(store, book)
+    dead_records = [index for index in kept if index not in records]
     dead_contents = [key for key in store.content_keys() if key not in contents]
     for index in dead_records:
         store.lose_record(index)

@@ -130,8 +130,8 @@ class House:
             raise InvalidCount(extra)
         for write in writes[:count]:
             carry_out(write, crashing.tree, crashing.store, self._hall)
-        for write in writes[count:count + 1]:
-            _begin_write(write, crashing, extra)
+        if count < len(writes):
+            _begin_write(writes[count], crashing, extra)
         _take_down(crashing)
 
     def restart(self, host):

@@ -27,14 +27,7 @@ def save_tree(tree):
 
 def load_tree(text):
     """A new tree from its saved form."""
-    tree = Tree()
-    last = ""
-    for number, line in enumerate(lines_of(text), start=1):
-        path = _read_entry(tree, line)
-        if path is None or path <= last:
-            raise InvalidSave(number)
-        last = path
-    return tree
+    return _read_lines(text, _read_entry, Tree())
 
 
 def save_settings(settings):
@@ -44,14 +37,7 @@ def save_settings(settings):
 
 def load_settings(text):
     """New settings from their saved form."""
-    settings = {}
-    last = ""
-    for number, line in enumerate(lines_of(text), start=1):
-        name = _read_setting(settings, line)
-        if name is None or name <= last:
-            raise InvalidSave(number)
-        last = name
-    return settings
+    return _read_lines(text, _read_setting, {})
 
 
 def save_store(store):
@@ -60,7 +46,7 @@ def save_store(store):
     lines = [_content_line(key_text(key), texts[key]) for key in store.content_keys()]
     for index, row in enumerate(store.kept_records()):
         if row is not None:
-            lines.append(_record_line(index, key_text(row[0]), row[1]))
+            lines.append(_row_line(index, key_text(row[0]), row[1]))
     return "\n".join(lines + [_count_line(store.record_count())])
 
 
@@ -100,7 +86,7 @@ class StoreReader:
         if len(parts) not in (2, 4) or not _is_number(parts[1]):
             return False
         number = int(parts[1])
-        if len(parts) == 4 and _record_line(number, parts[2], parts[3]) == line:
+        if len(parts) == 4 and _row_line(number, parts[2], parts[3]) == line:
             return self._read_record(number, parts[2], parts[3])
         return _count_line(number) == line and self._read_count(number)
 
@@ -148,7 +134,7 @@ def _content_line(right, kept):
     return f"content {format_string(right)} {format_string(kept)}"
 
 
-def _record_line(index, right, kept):
+def _row_line(index, right, kept):
     """The line of what is kept of a record with the key of the right line."""
     return f"record {index} {format_string(right)} {format_string(kept)}"
 
@@ -156,6 +142,17 @@ def _record_line(index, right, kept):
 def _count_line(count):
     """The line that tells how many records were added."""
     return f"records {count}"
+
+
+def _read_lines(text, read_line, found):
+    """Adds what the lines of a text tell to a tree or to settings; each line comes behind the one before it."""
+    last = ""
+    for number, line in enumerate(lines_of(text), start=1):
+        name = read_line(found, line)
+        if name is None or name <= last:
+            raise InvalidSave(number)
+        last = name
+    return found
 
 
 def _read_entry(tree, line):

@@ -82,7 +82,8 @@ class TestStores(unittest.TestCase):
         self.assertEqual(found, (len(rows) - len(records), len(before[0]) - len(contents)))
         self.assertIsInstance(found, tuple)
         self.assertEqual(self.store.kept_texts(), {content_key(text): text for text in contents})
-        self.assertEqual(self.store.kept_records(), [row if at in records else None for at, row in enumerate(before[1])])
+        left = [row if at in records else None for at, row in enumerate(before[1])]
+        self.assertEqual(self.store.kept_records(), left)
         after = kept(self.store)
         self.assertEqual(clean(self.store, book), (0, 0))
         self.assertEqual(kept(self.store), after)

@@ -12,7 +12,8 @@ from kilnyard.stores import Store
 from kilnyard.trees import Tree
 from tests.helpers import Yard, joins, kept
 
-TEXTS = ("", "a", " ", "\n", "\\", '"', "\\n", '"\n\\', "a b", "\n\n", "n" * 400, "\\" * 400, "~", "'#(),+", "\\\\", "\\\"")
+TEXTS = ("", "a", " ", "\n", "\\", '"', "\\n", '"\n\\', "a b", "\n\n", "n" * 400, "\\" * 400, "~", "'#(),+",
+         "\\\\", "\\\"")
 
 
 class SavingCase(unittest.TestCase):
