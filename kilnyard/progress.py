@@ -168,7 +168,7 @@ class Progress:
         """Makes all jobs that are in rings fail, also if the first failure ends the build."""
         # There are no rings later: the other waiting jobs wait for these, and come to be blocked.
         self.rings = find_rings(self.waits)
-        for name in sorted([name for ring in self.rings for name in ring]):
+        for name in sorted([member for ring in self.rings for member in ring]):
             del self.waits[name]
             self._fail_one(name, "ring", name)
         self._end_if_failed()
