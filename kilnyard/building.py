@@ -25,13 +25,13 @@ class Build:
     """A build of goals at one host, which moves its jobs by itself and is driven by attempts."""
 
     def __init__(self, tree, book, settings, store, hall, goals, *, keep_going=False):
-        # A goal that occurs twice counts once.
-        self._goals = list({goal: True for goal in goals})
-        if not 1 <= len(self._goals) <= MOST_GOALS:
-            raise InvalidGoals(len(self._goals))
-        for goal in self._goals:
+        # The limit is on the list as it is given: a goal that occurs twice counts once in what is built.
+        if not 1 <= len(goals) <= MOST_GOALS:
+            raise InvalidGoals(len(goals))
+        for goal in goals:
             if not is_path(goal):
                 raise InvalidPath(goal)
+        self._goals = list({goal: True for goal in goals})
         self._attempts = []
         self._progress = Progress(View(tree, book, settings), store, hall, keep_going)
         self._progress.begin(self._goals)

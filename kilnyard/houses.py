@@ -99,7 +99,8 @@ class House:
 
     def share(self, host, on):
         """Says whether builds that a host begins from now on share the hall."""
-        self._host(host).shares = on
+        sharing = self._host(host)
+        sharing.shares = on
 
     def begin(self, host, goals, *, keep_going=False):
         """Begins a build of what the host's recipes say now."""

@@ -43,10 +43,21 @@ class TestGoals(unittest.TestCase):
         build = self.yard.build("no", "src", "no", "src", keep_going=True)
         self.assertEqual(build.ledger(), [("missing", "no")])
 
-    def test_a_goal_that_occurs_twice_counts_once(self):
+    def test_a_goal_that_occurs_twice_is_built_once(self):
+        goals = [f"f{at}.o" for at in range(10)]
+        build = self.yard.build(*goals, *reversed(goals))
+        self.assertEqual(build.ready(), goals)
+        self.assertEqual(build.goals(), goals)
+        drive(build)
+        self.assertEqual((build.outcome(), build.attempt_count()), ("done", 10))
+        self.assertEqual(self.yard.build(*["a.o"] * 20).ready(), ["a.o"])
+
+    def test_the_limit_is_that_of_the_list_as_it_is_given(self):
         goals = [f"f{at}.o" for at in range(20)]
-        self.assertEqual(self.yard.build(*(goals + goals)).ready(), sorted(goals))
-        self.check_refused(goals + goals + ["a.o"], InvalidGoals, count_of_goals=21)
+        self.check_refused(goals + ["f0.o"], InvalidGoals, count_of_goals=21)
+        self.check_refused(goals + goals, InvalidGoals, count_of_goals=40)
+        self.check_refused(["a.o"] * 21, InvalidGoals, count_of_goals=21)
+        self.check_refused(["a.o", "src"] * 11 + ["a.o"], InvalidGoals, count_of_goals=23)
 
     def test_goals_that_are_no_paths(self):
         for goal in ("", "A", "a/", "*.o", "a b", "a/b/c/d/e", ".a"):
@@ -56,6 +67,8 @@ class TestGoals(unittest.TestCase):
 
     def test_their_number_is_checked_first(self):
         self.check_refused([f"F{at}" for at in range(21)], InvalidGoals, count_of_goals=21)
+        self.check_refused(["A"] * 21, InvalidGoals, count_of_goals=21)
+        self.check_refused(["a.o"] * 19 + ["A"], InvalidPath, path="A")
 
     def test_goals_and_settings_are_copied(self):
         self.yard.write(rules='rule a :\n put 1 setting("s")\nend')

@@ -229,6 +229,16 @@ class TestBuilds(HouseCase):
         self.check_refused(house, InvalidPath, "begin", 0, ["a", "A"], path="A")
         self.assertIs(house.build(0), build)
 
+    def test_the_limit_of_the_goals_is_that_of_the_list_as_it_is_given(self):
+        house = self.house()
+        self.check_refused(house, InvalidGoals, "begin", 0, ["a", "s"] * 11 + ["a"], count_of_goals=23)
+        self.check_refused(house, InvalidGoals, "begin", 0, ["A"] * 21, count_of_goals=21)
+        self.check_refused(house, InvalidPath, "begin", 0, ["a"] * 19 + ["A"], path="A")
+        build = house.begin(0, ["a", "s"] * 10)
+        self.assertEqual(build.states(), {"b": "ready"})
+        drive(build)
+        self.assertEqual((build.outcome(), build.attempt_count()), ("done", 1))
+
     def test_the_build_that_was_begun_latest(self):
         house = self.house()
         first = house.begin(0, ["a"])

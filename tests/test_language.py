@@ -42,6 +42,19 @@ def bound_names(file):
     return names
 
 
+def rows_of_outer_attributes(source):
+    """The rows where an attribute is assigned or deleted through anything but a local name (rule L18)."""
+    tree = ast.parse(source)
+    outer = {name.asname or name.name for node in tree.body if isinstance(node, ast.ImportFrom) for name in node.names}
+    outer |= {node.name for node in tree.body if isinstance(node, (ast.FunctionDef, ast.ClassDef))}
+    outer |= {name.id for node in tree.body if isinstance(node, (ast.Assign, ast.AnnAssign))
+              for name in ast.walk(node) if isinstance(name, ast.Name) and isinstance(name.ctx, ast.Store)}
+    attributes = [node for node in ast.walk(tree)
+                  if isinstance(node, ast.Attribute) and not isinstance(node.ctx, ast.Load)]
+    return sorted([node.lineno for node in attributes
+                   if not isinstance(node.value, ast.Name) or node.value.id in outer])
+
+
 class TestLanguage(unittest.TestCase):
     def test_the_package_has_files(self):
         self.assertIn(PACKAGE / "__init__.py", FILES)
@@ -113,6 +126,23 @@ class TestLanguage(unittest.TestCase):
         for file in FILES:
             with self.subTest(file=file.name):
                 self.assertIsNone(BARRED_WORDS.search(source_of(file)))
+
+    def test_attributes_are_assigned_through_local_names(self):
+        for file in FILES:
+            with self.subTest(file=file.name):
+                self.assertEqual(rows_of_outer_attributes(source_of(file)), [])
+
+    def test_attributes_that_are_assigned_otherwise_are_seen(self):
+        begin = "from kilnyard.trees import Tree\nLIMIT = 1\nclass Box: pass\ndef make(): return Box()\n"
+        for line in ("self.made().n = 1", "make().n = 1", "self.inner.n = 1", "self.rows[0].n = 1", "LIMIT.n = 1",
+                     "Box.n = 1", "Tree.n = 1", "make.n = 1", "self.made().n += 1", "self.made().n: int = 1",
+                     "k, self.made().n = 1, 2", "k = self.made().n = 1", "for self.made().n in (1, 2): pass"):
+            with self.subTest(line=line):
+                self.assertEqual(rows_of_outer_attributes(f"{begin}def deed(self):\n    {line}\n"), [6])
+        for line in ("self.n = 1", "k = make()\n    k.n = 1", "self.n, k = 1, 2", "self.n += 1", "self.made().n[0] = 1",
+                     "for self.n in (1, 2): pass", "return self.made().n"):
+            with self.subTest(line=line):
+                self.assertEqual(rows_of_outer_attributes(f"{begin}def deed(self):\n    {line}\n"), [])
 
     def test_no_barred_statements_and_values(self):
         for file in FILES:
